@@ -1,0 +1,91 @@
+"""The names, the parameters and the places of all that the interface lists; arguments by place and by name."""
+
+import importlib
+import inspect
+import unittest
+
+LISTED = {
+    "checks": {"is_integer": "value", "is_within": "value least most", "is_name": "value", "is_listed": "value", "are_names": "value",
+               "first_twice": "values"},
+    "ratios": {"Ratio": "top bottom=1", "Ratio.read": "text", "Ratio.of": "value", "Ratio.over": "self other", "Ratio.is_below": "self other",
+               "Ratio.__add__": None, "Ratio.__sub__": None, "Ratio.__mul__": None, "Ratio.__neg__": None, "Ratio.__abs__": None,
+               "Ratio.__bool__": None, "Ratio.__eq__": None, "Ratio.__str__": None, "Ratio.__repr__": None,
+               "is_ratio": "value", "are_ratios": "value", "summed": "ratios", "greatest_of": "ratios", "least_of": "ratios"},
+    "papers": {"Paper": "word *parts", "Paper.__eq__": None, "Denial": "word *parts", "Denial.__eq__": None, "fixed": "value"},
+    "steps": {"Step": "time place", "Step.nothing": "axes", "Step.read": "text", "Step.__add__": None, "Step.__sub__": None,
+              "Step.__mul__": None, "Step.__neg__": None, "Step.__eq__": None, "Step.__str__": None, "product_of": "one other"},
+    "spans": {"Span": "terms", "Span.between": "one other", "Span.read": "text", "Span.number_of": "self name", "Span.__add__": None,
+              "Span.__sub__": None, "Span.__mul__": None, "Span.__neg__": None, "Span.__eq__": None, "Span.__str__": None},
+    "books": {"Book": "axes spots", "Book.__len__": None, "Book.__iter__": None, "Book.__contains__": None, "Book.__eq__": None,
+              "Book.__str__": None, "Book.read": "text", "Book.spot_of": "self name", "Book.step_of": "self span",
+              "Book.with_happening": "self name time place", "Book.kept": "self names", "Book.renamed": "self names"},
+    "moved": {"moved_book": "book step", "mirrored_book": "book axis", "time_turned": "book", "turned_book": "book one other ratio",
+              "enlarged_book": "book times"},
+    "telling": {"kind_between": "book one other", "does_reach": "book one other", "reached_pairs": "book", "apart_pairs": "book"},
+    "chains": {"Messengers": "chains crowd", "LongChain": "chain crowds", "fewest_messengers": "book", "longest_chain": "book"},
+    "check_telling": {"shows_messengers": "book value", "shows_longest": "book value"},
+    "news": {"light_right": "book name", "light_left": "book name", "right_order": "book", "left_order": "book", "meet_of": "book names",
+             "first_news": "book names", "last_call": "book names", "left_to_right": "book names", "spot_of_lights": "right left"},
+    "paces": {"Pace": "parts", "Pace.rest": "axes", "Pace.of_beats": "ratio axes axis", "Pace.read": "text", "Pace.mixed": "self other share",
+              "Pace.__neg__": None, "Pace.__eq__": None, "Pace.__str__": None},
+    "called": {"called_worth": "book pace span", "called_sign": "book pace span", "called_order": "book pace",
+               "called_quotient": "book pace one other"},
+    "carried": {"carried_book": "book ratio axis", "carried_pace": "pace ratio axis", "mirrored_pace": "pace axis",
+                "turned_pace": "pace one other ratio"},
+    "rows": {"AnyRow": "", "Row": "span kind", "Row.ahead": "one other", "Row.level": "one other", "Row.read": "text",
+             "Row.contraries": "self", "Row.__eq__": None, "Row.__str__": None},
+    "callers": {"Somebody": "pace", "Nobody": "weights", "keeps_rows": "book pace rows", "find_caller": "book rows",
+                "weighted_step": "book rows weights", "order_rows": "order"},
+}
+BELOW = {("papers", "Denial"): ("papers", "Paper"), ("chains", "Messengers"): ("papers", "Paper"), ("chains", "LongChain"): ("papers", "Paper"),
+         ("rows", "Row"): ("rows", "AnyRow"), ("callers", "Somebody"): ("papers", "Paper"), ("callers", "Nobody"): ("papers", "Denial")}
+
+
+def module_of(name):
+    return importlib.import_module(f"whosefirst.{name}")
+
+
+def parameters_of(value):
+    shown = []
+    for parameter in inspect.signature(value).parameters.values():
+        star = "*" if parameter.kind == parameter.VAR_POSITIONAL else ""
+        default = "" if parameter.default is parameter.empty else f"={parameter.default!r}"
+        shown.append(f"{star}{parameter.name}{default}")
+        if not star and parameter.kind != parameter.POSITIONAL_OR_KEYWORD:
+            shown.append("!")
+    return " ".join(shown)
+
+
+class Interface(unittest.TestCase):
+
+    def test_all_is_defined_where_it_is_listed(self):
+        for file, names in LISTED.items():
+            module = module_of(file)
+            for name in names:
+                with self.subTest(file=file, name=name):
+                    owner, _, method = name.partition(".")
+                    value = vars(module)[owner]
+                    self.assertEqual(value.__module__, f"whosefirst.{file}")
+                    if method:
+                        self.assertIn(method, vars(value))
+
+    def test_parameters(self):
+        for file, names in LISTED.items():
+            for name, due in names.items():
+                if due is not None:
+                    with self.subTest(file=file, name=name):
+                        owner, _, method = name.partition(".")
+                        value = vars(module_of(file))[owner]
+                        self.assertEqual(parameters_of(getattr(value, method) if method else value), due)
+
+    def test_classes_stand_directly_below_those_told(self):
+        for (file, name), (above_file, above) in BELOW.items():
+            self.assertEqual(vars(module_of(file))[name].__bases__, (vars(module_of(above_file))[above],))
+
+    def test_read_needs_no_object(self):
+        for file, names in LISTED.items():
+            for name in names:
+                owner, _, method = name.partition(".")
+                if method in ("read", "of", "nothing", "between", "rest", "of_beats", "ahead", "level"):
+                    kept = vars(vars(module_of(file))[owner])[method]
+                    self.assertIsInstance(kept, (staticmethod, classmethod))

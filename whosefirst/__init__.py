@@ -1,0 +1,1 @@
+"""Whosefirst: which came first, for whoever flies by and whoever looks."""
