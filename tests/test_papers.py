@@ -84,7 +84,8 @@ class Papers(Case):
         self.assertEqual(fixed([{1: {2: [3]}}]), (((1, ((2, (3,)),)),),))
 
     def test_dicts_with_keys_of_unlike_kinds_stay(self):
-        for value in ({1: 2, "a": 3}, {"a": 1, b"a": 2}, {None: 1, 2: 3}, {(1,): 1, ("a",): 2}, {(1, 2): 0, 3: 1}):
+        for value in ({1: 2, "a": 3}, {"a": 1, b"a": 2}, {None: 1, 2: 3}, {(1,): 1, ("a",): 2}, {(1, 2): 0, 3: 1}, {(1, 2): 0, (2, "a"): 0, (1, "b"): 0},
+                      {((1,), 2): 0, (("a",), 2): 1}):
             self.assertEqual(fixed(value), value)
 
     def test_other_values_stay(self):

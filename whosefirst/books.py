@@ -126,8 +126,8 @@ def is_renaming(names):
 
 
 def first_same_pair(spots):
-    """The first pair of names, the lesser one ahead, with one step in a dict from names to steps; None without one."""
-    names = sorted(list(spots))
+    """The first pair of names with one step in a dict from ascending names to steps; None without one."""
+    names = list(spots)
     for at, one in enumerate(names):
         for other in names[at + 1:]:
             if spots[one] == spots[other]:

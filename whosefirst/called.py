@@ -36,6 +36,5 @@ def called_quotient(book, pace, one, other):
     ask_span(other, "other")
     ask_equal_axes(pace, book)
     ask_all_known(book, one.names)
-    ask_all_known(book, other.names)
     length = called_worth(book, pace, other)
     return None if length.sign == 0 else called_worth(book, pace, one).over(length)

@@ -88,4 +88,4 @@ def ask_rows(rows):
 
 def ask_rows_known(book, rows):
     """All names of the rows must be in the book."""
-    ask_all_known(book, sorted(set([name for row in rows for name in row.span.names])))
+    ask_all_known(book, [name for row in rows for name in row.span.names])

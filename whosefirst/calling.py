@@ -59,9 +59,9 @@ def share_to_lean(point, lean, steps):
     half = Ratio(1, 2)
     shares = [Ratio(1)]
     for step in steps:
-        worth, fall = worth_at(step, point), dot_product(step.place, lean)
-        if worth.sign > 0 and fall.sign > 0:
-            shares.append((worth * half).over(fall))
+        fall = dot_product(step.place, lean)
+        if fall.sign > 0:
+            shares.append((worth_at(step, point) * half).over(fall))
     # Of a share up to 1 the square grows by no more than this, times the share.
     growth = abs(dot_product(point, lean)) * 2 + squares_of(lean)
     if growth.sign > 0:

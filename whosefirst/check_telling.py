@@ -42,8 +42,8 @@ def are_unlike(book, names):
 
 
 def is_chain(book, names):
-    """Whether any value is a list of one or more names of the book, each of which reaches the next one."""
-    if not are_unlike(book, names) or len(names) == 0:
+    """Whether any value is a list of unlike names of the book, each of which reaches the next one."""
+    if not are_unlike(book, names):
         return False
     return all([does_reach(book, one, other) for one, other in zip(names, names[1:])])
 

@@ -1,6 +1,6 @@
 """Books moved, mirrored, turned and enlarged."""
 
-from whosefirst.asks import ask_axis, ask_equal_axes, ask_two_axes, asked_above_nought, asked_ratio
+from whosefirst.asks import ask_axis, ask_two_axes, asked_above_nought, asked_ratio
 from whosefirst.books import ask_book, changed_book
 from whosefirst.errors import BadStep
 from whosefirst.places import mirrored_place, turned_place
@@ -12,7 +12,6 @@ def moved_book(book, step):
     ask_book(book)
     if not isinstance(step, Step):
         raise BadStep("step")
-    ask_equal_axes(step, book)
     return changed_book(book, lambda spot: spot + step)
 
 

@@ -95,7 +95,7 @@ def dot_product(one, other):
 
 def shares_of(normal, held):
     """How many times each held normal is in this one, so that what is left over stands straight on all of them."""
-    columns = [*[pull.normal for pull in held], normal]
+    columns = [pull.normal for pull in held] + [normal]
     rows = [[dot_product(pull.normal, column) for column in columns] for pull in held]
     for k in range(len(rows)):
         # Held normals never add up to nought, so that this number is above 0.

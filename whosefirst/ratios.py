@@ -110,10 +110,11 @@ def summed(ratios):
     """The sum of a list of ratios, 0 of none."""
     if not are_ratios(ratios):
         raise BadRatio("ratios")
-    total = Ratio(0)
-    for ratio in ratios:
-        total = total + ratio
-    return total
+    if len(ratios) < 2:
+        return Ratio.of(ratios[0]) if len(ratios) == 1 else Ratio(0)
+    # By halves, as one sum that grows term by term would carry a long bottom through all of them.
+    half = len(ratios) // 2
+    return summed(ratios[:half]) + summed(ratios[half:])
 
 
 def greatest_of(ratios):
@@ -129,7 +130,7 @@ def greatest_of(ratios):
 
 def least_of(ratios):
     """The least of one ratio or more."""
-    if not are_ratios(ratios) or len(ratios) == 0:
+    if not are_ratios(ratios):
         raise BadRatio("ratios")
     return -greatest_of([-Ratio.of(ratio) for ratio in ratios])
 

@@ -92,13 +92,12 @@ def take_span(words):
         words.take()
         return Span({})
     terms = {}
-    total = Ratio(0)
     above = ""
-    while total.sign != 0 or not words.is_done() or len(terms) == 0:
+    while len(terms) == 0 or not words.is_done():
         above = words.take_name(above)
-        ratio = take_ratio(words)
-        if ratio.sign == 0:
+        terms[above] = take_ratio(words)
+        if terms[above].sign == 0:
             raise BadText(0, words.at - 1)
-        terms[above] = ratio
-        total = total + ratio
+    if summed(list(terms.values())).sign != 0:
+        raise BadText(0, words.at)
     return Span(terms)

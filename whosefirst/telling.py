@@ -1,15 +1,13 @@
 """Which happenings of a book reach which, and which are apart."""
 
-from whosefirst.asks import ask_happening
 from whosefirst.books import ask_book
 
 
 def kind_between(book, one, other):
     """The kind of the step from one happening to another one."""
     ask_book(book)
-    ask_happening(book, one)
-    ask_happening(book, other)
-    return (book.spot_of(other) - book.spot_of(one)).kind
+    begin, end = book.spot_of(one), book.spot_of(other)
+    return (end - begin).kind
 
 
 def does_reach(book, one, other):

@@ -25,12 +25,9 @@ class Words:
         return None if self.is_done() else self.words[self.at]
 
     def take(self):
-        """The next word, which is read by this."""
-        word = self.coming()
-        if word is None:
-            raise BadText(0, self.at)
+        """The next word, which is there, and is read by this."""
         self.at = self.at + 1
-        return word
+        return self.words[self.at - 1]
 
     def take_of(self, allowed):
         """The next word, which must be one of the allowed ones."""
