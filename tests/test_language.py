@@ -61,6 +61,9 @@ class Language(unittest.TestCase):
             for at, line in enumerate(text.split("\n"), 1):
                 if len(line) > 120 or any(not " " <= sign <= "~" for sign in line):
                     self.wrong(name[:-3], at, "characters")
+            for word in ("_wall", "_WallAttr", "dataclass", "overload", "contextmanager"):
+                if word in text:
+                    self.found.append(f"{name}: {word}")
             if len(text.splitlines()) > 399 or not text.endswith("\n"):
                 self.found.append(f"{name}: length")
 

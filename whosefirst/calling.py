@@ -17,7 +17,7 @@ def pace_or_weights(steps, kinds, axes):
     if near.point is None or not squares_of(near.point).is_below(1):
         return None, scaled(near.weights, steps)
     level = [at for at, step in enumerate(steps) if worth_at(step, near.point).sign == 0]
-    lean = nearest([lean_wall_of(steps[at], kinds[at]) for at in level], axes)
+    lean = nearest([wall_to_lean(steps[at], kinds[at]) for at in level], axes)
     if lean.point is None:
         weights = [Ratio(0)] * len(steps)
         for at, weight in zip(level, lean.weights):
@@ -38,7 +38,7 @@ def wall_of(step, kind):
     return Wall([-number for number in numbers[1:]], -numbers[0], kind == "=")
 
 
-def lean_wall_of(step, kind):
+def wall_to_lean(step, kind):
     """The Wall for a change of a pace that calls the step level: the worth must grow, not fall, or stay."""
     numbers, _ = whole_step(step)
     return Wall([-number for number in numbers[1:]], 1 if kind == ">" else 0, kind == "=")

@@ -59,7 +59,7 @@ def nearest(walls, axes):
         loose = first_loose(held, shares)
         if loose is None and not any(way):
             return Nearest(walls, None, pulls_apart(fresh, held, shares))
-        length = length_to_wall(fresh, point, way)
+        length = length_of_way(fresh, point, way)
         if loose is not None and (length is None or slack_of(held, shares, loose).is_below(length)):
             length = slack_of(held, shares, loose)
             point = moved_along(point, way, length)
@@ -130,7 +130,7 @@ def first_loose(held, shares):
     return loose
 
 
-def length_to_wall(fresh, point, way):
+def length_of_way(fresh, point, way):
     """How many times the way leads from the point to the fresh wall, None if there is no way."""
     square = dot_product(way, way)
     if square.sign == 0:
