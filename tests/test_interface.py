@@ -36,9 +36,41 @@ LISTED = {
              "Row.contraries": "self", "Row.__eq__": None, "Row.__str__": None},
     "callers": {"Somebody": "pace", "Nobody": "weights", "keeps_rows": "book pace rows", "find_caller": "book rows",
                 "weighted_step": "book rows weights", "order_rows": "order"},
+    "clashes": {"Clash": "numbers weights paces", "least_clash": "book rows", "all_clashes": "book rows"},
+    "check_callers": {"shows_caller": "book rows value", "shows_clash": "book rows value"},
+    "sayings": {"Saying": "parts", "Saying.read": "text", "Saying.__len__": None, "Saying.__eq__": None, "Saying.__str__": None,
+                "Saying.__and__": "self other", "Saying.__or__": "self other", "Saying.__invert__": "self", "yes": "", "no": "", "of_row": "row",
+                "all_of": "*sayings", "any_of": "*sayings", "least_of": "many *sayings"},
+    "ready_sayings": {"ahead_of": "one other", "level_with": "one other", "first_among": "name names", "last_among": "name names",
+                      "lies_between": "name one other", "lasts_longer": "one other third fourth times=1"},
+    "words": {"Always": "tree", "Open": "one other", "Never": "tree", "truth_at": "book saying pace", "word_of": "book saying given=()"},
+    "check_words": {"shows_word": "book saying given value"},
+    "flats": {"Flat": "pairs number pace", "flats_of": "book", "orders_count": "book"},
+    "orders": {"Called": "order pace", "called_orders": "book", "caller_of": "book order"},
+    "turns": {"turned_pairs": "one other", "is_between": "one other third", "way_between": "book one other"},
+    "records": {"Records": "paces tree", "reach_read": "orders", "fewest_records": "book"},
+    "check_orders": {"shows_flat": "book value", "shows_called": "book value", "shows_order": "book order value", "shows_records": "book value"},
+    "riders": {"Rider": "pace stand", "Rider.of_line": "p q", "Rider.read": "text", "Rider.__eq__": None, "Rider.__str__": None,
+               "rider_mark": "book rider name", "rider_side": "book rider name", "rider_sight": "book rider name", "seen_order_of": "book rider",
+               "called_order_of": "book rider"},
+    "rider_rows": {"RiderRow": "called seen kind", "RiderRow.read": "text", "RiderRow.__eq__": None, "RiderRow.__str__": None, "SideRow": "name side",
+                   "SideRow.read": "text", "SideRow.__eq__": None, "SideRow.__str__": None, "rider_sign": "book rider row", "seen_ahead": "one other",
+                   "seen_with": "one other", "seen_first": "name names", "seen_last": "name names", "looks_longer": "one other times=1",
+                   "seen_longer": "one other third fourth times=1", "lies_left": "name", "goes_through": "name", "lies_right": "name"},
+    "rider_words": {"rider_truth": "book saying rider", "rider_word": "book saying given=()"},
+    "check_riders": {"shows_rider_word": "book saying given value"},
+    "stories": {"Story": "axes names travellers reports", "Story.pace_of": "self name", "Story.with_report": "self traveller row",
+                "Story.without": "self number", "Story.__eq__": None, "Held": "spots", "Mixed": "weights", "held": "story"},
+    "sure": {"Sure": "weights", "Unsure": "one other", "Struck": "numbers spots papers", "Stretch": "low high is_low_in is_high_in", "Against": "weights",
+             "sure_row": "story pace row", "sure_paces": "story span", "fewest_struck": "story"},
 }
 BELOW = {("papers", "Denial"): ("papers", "Paper"), ("chains", "Messengers"): ("papers", "Paper"), ("chains", "LongChain"): ("papers", "Paper"),
-         ("rows", "Row"): ("rows", "AnyRow"), ("callers", "Somebody"): ("papers", "Paper"), ("callers", "Nobody"): ("papers", "Denial")}
+         ("rows", "Row"): ("rows", "AnyRow"), ("rider_rows", "RiderRow"): ("rows", "AnyRow"), ("rider_rows", "SideRow"): ("rows", "AnyRow"),
+         **{(file, name): ("papers", "Denial") for file, name in (("callers", "Nobody"), ("clashes", "Clash"), ("words", "Never"), ("stories", "Mixed"),
+                                                                  ("sure", "Against"))},
+         **{(file, name): ("papers", "Paper") for file, name in (
+             ("callers", "Somebody"), ("words", "Always"), ("words", "Open"), ("flats", "Flat"), ("orders", "Called"), ("records", "Records"),
+             ("stories", "Held"), ("sure", "Sure"), ("sure", "Unsure"), ("sure", "Struck"), ("sure", "Stretch"))}}
 
 
 def module_of(name):
@@ -86,6 +118,6 @@ class Interface(unittest.TestCase):
         for file, names in LISTED.items():
             for name in names:
                 owner, _, method = name.partition(".")
-                if method in ("read", "of", "nothing", "between", "rest", "of_beats", "ahead", "level"):
+                if method in ("read", "of", "nothing", "between", "rest", "of_beats", "of_line", "ahead", "level"):
                     kept = vars(vars(module_of(file))[owner])[method]
                     self.assertIsInstance(kept, (staticmethod, classmethod))

@@ -227,6 +227,34 @@ class Language(unittest.TestCase):
         if method.name in ("__add__", "__sub__", "__mul__", "__eq__") and [arg.arg for arg in method.args.args] != ["self", "other"]:
             self.wrong(file, method, "parameters")
 
+    def test_what_is_iterated_at_once(self):
+        at_once = "list tuple dict sorted sum any all enumerate zip".split()
+        for file, tree in trees().items():
+            allowed = set()
+            for node in ast.walk(tree):
+                if isinstance(node, (ast.For, ast.comprehension)):
+                    allowed.add(node.iter)
+                if isinstance(node, ast.Call) and node.args:
+                    name = node.func.id if isinstance(node.func, ast.Name) else ""
+                    is_join = isinstance(node.func, ast.Attribute) and node.func.attr == "join" and isinstance(node.func.value, ast.Constant)
+                    if name in at_once or is_join or (name in ("min", "max", "len", "reversed") and len(node.args) == 1):
+                        allowed.add(node.args[0])
+            for node in ast.walk(tree):
+                if isinstance(node, ast.Call) and node not in allowed:
+                    shown = ast.unparse(node.func)
+                    if shown in ("zip", "enumerate", "reversed", "range") or shown.endswith((".items", ".keys", ".values")):
+                        self.wrong(file, node, f"{shown} is not iterated at once")
+
+    def test_stars(self):
+        for file, tree in trees().items():
+            for node in ast.walk(tree):
+                if isinstance(node, ast.Call):
+                    for argument in node.args:
+                        if isinstance(argument, ast.Starred) and not isinstance(argument.value, (ast.Name, ast.Attribute)):
+                            self.wrong(file, node, "a star ahead of no name")
+                    if any(isinstance(argument, ast.Starred) for argument in node.args) and isinstance(node.func, ast.Name) and node.func.id in BUILTINS:
+                        self.wrong(file, node, "a star in a builtin's call")
+
     def test_lambdas(self):
         for file, tree in trees().items():
             lines = [node.lineno for node in ast.walk(tree) if isinstance(node, ast.Lambda)]

@@ -3,13 +3,12 @@
 from whosefirst.asks import ask_all_known, ask_equal_axes
 from whosefirst.books import ask_book
 from whosefirst.calling import pace_or_weights
-from whosefirst.checks import is_listed
 from whosefirst.errors import BadNumber, BadRow, TooMany, Unlike
 from whosefirst.lots import ask_order, names_in
 from whosefirst.paces import ask_pace, worth_of
 from whosefirst.papers import Denial, Paper
 from whosefirst.ratios import are_ratios
-from whosefirst.rows import Row, is_kept
+from whosefirst.rows import Row, are_rows, is_kept
 from whosefirst.steps import Step
 
 MOST_ROWS = 24
@@ -35,7 +34,7 @@ def keeps_rows(book, pace, rows):
     """Whether the traveller of a pace keeps all rows."""
     ask_book(book)
     ask_pace(pace, "pace")
-    ask_rows(rows)
+    ask_rows(rows, "rows")
     ask_equal_axes(pace, book)
     ask_rows_known(book, rows)
     return all([is_kept(row.kind, worth_of(book.step_of(row.span), pace).sign) for row in rows])
@@ -44,7 +43,7 @@ def keeps_rows(book, pace, rows):
 def find_caller(book, rows):
     """The Somebody with a pace that keeps all rows, or the Nobody with nobody's weights."""
     ask_book(book)
-    ask_rows(rows)
+    ask_rows(rows, "rows")
     ask_rows_known(book, rows)
     if len(rows) > MOST_ROWS:
         raise TooMany("rows", MOST_ROWS)
@@ -56,7 +55,7 @@ def find_caller(book, rows):
 def weighted_step(book, rows, weights):
     """The Step that the steps of the rows' spans, each times its weight, add up to."""
     ask_book(book)
-    ask_rows(rows)
+    ask_rows(rows, "rows")
     if not are_ratios(weights):
         raise BadNumber("weights")
     ask_rows_known(book, rows)
@@ -80,10 +79,10 @@ def order_rows(order):
     return tuple(rows)
 
 
-def ask_rows(rows):
-    """The parameter rows must be a list of Rows, perhaps of none."""
-    if not is_listed(rows) or not all([isinstance(row, Row) for row in rows]):
-        raise BadRow("rows")
+def ask_rows(rows, part):
+    """A parameter must be a list of Rows, perhaps of none."""
+    if not are_rows(rows):
+        raise BadRow(part)
 
 
 def ask_rows_known(book, rows):

@@ -1,7 +1,7 @@
 """Rows: how a span is to be called."""
 
 from whosefirst.books import ask_span
-from whosefirst.checks import is_name
+from whosefirst.checks import is_listed, is_name
 from whosefirst.errors import BadRow
 from whosefirst.spans import Span, take_span
 from whosefirst.texts import Words
@@ -37,10 +37,9 @@ class Row(AnyRow):
     def read(text):
         """The Row with this text."""
         words = Words(text)
-        kind = words.take_of(KINDS)
-        span = take_span(words)
+        row = take_row(words)
         words.finish()
-        return Row(span, kind)
+        return row
 
     def contraries(self):
         """The rows of which whoever does not keep this one keeps just one, and all others none."""
@@ -55,6 +54,16 @@ class Row(AnyRow):
 
     def __str__(self):
         return f"{self.kind} {self.span}"
+
+
+def is_row(value):
+    """Whether any value is a row: of travellers, riders or eyes."""
+    return isinstance(value, AnyRow) and type(value) is not AnyRow
+
+
+def are_rows(values):
+    """Whether any value is a list or a tuple of Rows."""
+    return is_listed(values) and all([isinstance(row, Row) for row in values])
 
 
 def is_kind(value):
@@ -76,3 +85,9 @@ def is_kept(kind, sign):
     if kind == ">":
         return sign > 0
     return sign >= 0 if kind == ">=" else sign == 0
+
+
+def take_row(words, ends=()):
+    """The coming words of a text as a Row; its span goes on until one of the ends comes."""
+    kind = words.take_of(KINDS)
+    return Row(take_span(words, ends), kind)

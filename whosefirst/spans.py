@@ -86,14 +86,14 @@ def joined(one, other):
     return Span({name: one.number_of(name) + other.number_of(name) for name in names})
 
 
-def take_span(words):
-    """The coming words of a text as a Span; it goes on as long as there are words."""
+def take_span(words, ends=()):
+    """The coming words of a text as a Span; it goes on as long as there are words and none of the ends comes."""
     if words.coming() == "-":
         words.take()
         return Span({})
     terms = {}
     above = ""
-    while len(terms) == 0 or not words.is_done():
+    while len(terms) == 0 or not (words.is_done() or words.coming() in ends):
         above = words.take_name(above)
         terms[above] = take_ratio(words)
         if terms[above].sign == 0:

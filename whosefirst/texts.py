@@ -1,6 +1,6 @@
 """Texts: words with single blanks between, read one by one."""
 
-from whosefirst.checks import DIGITS, is_name
+from whosefirst.checks import DIGITS, is_name, is_within
 from whosefirst.errors import BadText
 
 MOST_DIGITS = 60
@@ -42,6 +42,13 @@ class Words:
             raise BadText(0, self.at)
         return self.take()
 
+    def take_integer(self, least, most):
+        """The next word, which must be an integer from least to most, None being no bound."""
+        word = self.coming()
+        if word is None or not is_whole(word) or not is_within(int(word), least, most):
+            raise BadText(0, self.at)
+        return int(self.take())
+
     def finish(self):
         """A word too many cannot stand."""
         if not self.is_done():
@@ -51,6 +58,11 @@ class Words:
 def are_digits(word):
     """Whether a word is 1 to 60 digits."""
     return 0 < len(word) <= MOST_DIGITS and all([sign in DIGITS for sign in word])
+
+
+def is_whole(word):
+    """Whether a word is the text of an integer from 0 on, without too many digits."""
+    return are_digits(word) and (word == "0" or word[0] != "0")
 
 
 def digits_of(number):
