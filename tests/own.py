@@ -6,6 +6,7 @@ from whosefirst.callers import Nobody, Somebody
 from whosefirst.clashes import Clash
 from whosefirst.paces import Pace
 from whosefirst.ratios import Ratio
+from whosefirst.spans import Span
 from whosefirst.words import Always, Never, Open
 
 KINDS = (">", ">=", "=")
@@ -105,6 +106,18 @@ def road_paces(book, rows):
     ends = sorted(ends)
     middles = [(one + other) / 2 for one, other in zip(ends, ends[1:])]
     return [Pace([Ratio(part.numerator, part.denominator)]) for part in sorted(ends[1:-1] + middles)]
+
+
+def random_span(source, names):
+    """A span between two names, or over all of them, perhaps nothing."""
+    if source.random() < 0.6:
+        return Span.between(source.choice(names), source.choice(names))
+    terms = {name: Ratio(source.randint(-2, 2), source.randint(1, 2)) for name in names}
+    rest = Ratio(0)
+    for number in terms.values():
+        rest = rest + number
+    terms[names[0]] = terms[names[0]] - rest
+    return Span(terms)
 
 
 def settled(parts, known):

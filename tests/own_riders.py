@@ -2,7 +2,7 @@
 
 import random
 
-from own import are_weights, exact, holds, is_index, settled, sign_of, truth
+from own import are_weights, exact, holds, is_index, random_span, settled, sign_of, truth
 from whosefirst.books import Book
 from whosefirst.paces import Pace
 from whosefirst.ratios import Ratio
@@ -150,17 +150,6 @@ def some_riders(book):
                 part = (end - spot).place[0].over((end - spot).time)
                 riders.append(Rider(Pace([part]), spot.place[0] - part * spot.time))
     return riders
-
-
-def random_span(source, names):
-    if source.random() < 0.5:
-        return Span.between(source.choice(names), source.choice(names))
-    terms = {name: Ratio(source.randint(-2, 2), source.randint(1, 2)) for name in names}
-    rest = Ratio(0)
-    for number in terms.values():
-        rest = rest + number
-    terms[names[0]] = terms[names[0]] - rest
-    return Span(terms)
 
 
 def random_rider_rows(source, book, many, names=3):

@@ -12,6 +12,8 @@ from whosefirst.books import Book
 from whosefirst.callers import find_caller
 from whosefirst.check_orders import shows_records
 from whosefirst.errors import BadBook, BadOrder, TooMany, Twice, Unlike
+from whosefirst.grouping import Sharing
+from whosefirst.orders import called_orders
 from whosefirst.paces import Pace
 from whosefirst.papers import Paper
 from whosefirst.ratios import Ratio
@@ -32,8 +34,9 @@ def told_books():
     books = [book for book in few_books() if len(book) < 5]
     books += [Book(1, {f"n{at}": (source.randint(-9, 9), [3 * at]) for at in range(8)}), Book(1, {f"n{at}": (0, [at]) for at in range(8)}), FOUR]
     books += [Book.read("2 a 0 -6 11 / b 3 0 -7 / c -6 0 10 / d -3 -6 -8"), Book.read("3 a -7 -8 -10 -9 / b -7 9 -4 1 / c 5 -5 -5 12 / d 6 1 3 -10"),
-              Book.read("2 a -7 -6 -7 / b 5 1 5 / c -3 12 4 / d 7 10 -7")]
-    while len(books) < 66:
+              Book.read("2 a -7 -6 -7 / b 5 1 5 / c -3 12 4 / d 7 10 -7"), Book.read("2 a -1 3 -1 / b -2 -2 2 / c -1 -2 0 / d -1 -3 1"),
+              Book.read("3 a 5 8 -2 11 / b 6 -2 5 6 / c 2 -2 3 10 / d 0 5 -6 -7"), Book.read("3 a 4 -6 -1 2 / b 0 -1 0 4 / c 6 0 -6 3 / d 1 -6 -4 4")]
+    while len(books) < 69:
         axes = source.choice([2, 3])
         book = Book(axes, {f"n{at}": (source.randint(-60, 60), [source.randint(-60, 60) for _ in range(axes - 1)] + [90 * at]) for at in range(4)})
         if len(apart_pairs(book)) == 6:
@@ -75,6 +78,14 @@ def is_own_records(book, value):
     if len(value.paces) == 1:
         return value.tree is None
     return is_own_tree(book, own_demands(book), value.tree, len(value.paces) - 1, [])
+
+
+class Naive(Sharing):
+    """Puts demands as they are numbered: so trees grow wide, and groups begun early are put into late."""
+
+    def next_demand(self, begun):
+        put = [number for group in begun for number in group]
+        return min(number for number in range(len(self.steps)) if number not in put)
 
 
 class ReachRead(Case):
@@ -154,6 +165,21 @@ class Fewest(Case):
                     if (book.spot_of(pair[1]).place[0] - book.spot_of(pair[0]).place[0]).bottom == 1 else None for pair in apart_pairs(book)}
             self.assertNotIn(None, ends)
             self.assertEqual(len(fewest_records(book).paces), 1 if len(ends) < 2 else 2)
+
+    def test_wide_trees(self):
+        sizes = []
+        for book in [book for book in told_books() if book.axes > 1 and len(book) == 4]:
+            many = len(fewest_records(book).paces)
+            if many > 2 or (many == 2 and len(sizes) < 9):
+                demands = own_demands(book)
+                paces = [called.pace for called in called_orders(book)]
+                sets = [{number: True for number, span in enumerate(demands) if worth(book, pace, span) >= 0} for pace in paces]
+                tree = Naive([book.step_of(span) for span in demands], book.axes, sets, many - 1).tree_below([])
+                paper = Records(fewest_records(book).paces, tree)
+                self.assertTrue(is_own_records(book, paper))
+                self.assertIs(shows_records(book, paper), True)
+                sizes.append(str(tree).count("put"))
+        self.assertGreater(max(sizes), 30)
 
     def test_one_happening_none_apart_by_hand(self):
         for axes in (1, 2, 3):

@@ -312,7 +312,8 @@ class Shown(Case):
             with self.subTest(value=short(value)):
                 weights = ("nobody", [1, 0, value])
                 for paper in (value, Open(value, SITTING), Always(("side", [value], TREE[2], TREE[3])), Always(("side", "a", ("nobody", value), TREE[3])),
-                              Always(("side", "a", TREE[2], value)), Always(value), Always(("side", "a", weights, TREE[3]))):
+                              Always((value if value != "a" else None, "a", TREE[2], TREE[3])) if type(value) is str else Always((value, "a", TREE[2], TREE[3])),
+                              Always((value, [1, 0, 1])), Always(("side", "a", TREE[2], value)), Always(value), Always(("side", "a", weights, TREE[3]))):
                     due = type(value) in (int, Ratio) and is_rider_word(TWO, saying, FAR, paper)
                     self.assertIs(shows_rider_word(TWO, saying, FAR, paper), due)
         self.assertIs(shows_rider_word(value=Always(TREE), given=tuple(FAR), saying=saying, book=TWO), True)

@@ -4,10 +4,9 @@ import random
 import time
 
 from helpers import Case
-from own import is_clash, is_word
+from own import is_clash, is_word, random_span
 from own_riders import is_rider_word, random_rider_rows, rides
 from test_callers import random_rows, rows_kept_by
-from test_stories import random_span
 from whosefirst.books import Book
 from whosefirst.called import called_order
 from whosefirst.callers import find_caller, keeps_rows

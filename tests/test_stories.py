@@ -3,7 +3,7 @@
 import random
 
 from helpers import Case, no_integers, no_lists, no_names, no_values
-from own import KINDS, exact, holds, sign_of
+from own import KINDS, exact, holds, random_span, sign_of
 from test_sayings import OwnRow
 from whosefirst.errors import BadNumber, BadRow, BadStory, NoHappening, NoTraveller, TooMany, Twice, Unlike
 from whosefirst.paces import Pace
@@ -59,17 +59,6 @@ def weights_mix(story, weights, told):
             if total:
                 return False
     return any(weight.sign > 0 and row.kind == ">" for weight, (_, row) in zip(weights, told))
-
-
-def random_span(source, names):
-    if source.random() < 0.6:
-        return Span.between(source.choice(names), source.choice(names))
-    terms = {name: Ratio(source.randint(-2, 2), source.randint(1, 2)) for name in names}
-    rest = Ratio(0)
-    for number in terms.values():
-        rest = rest + number
-    terms[names[0]] = terms[names[0]] - rest
-    return Span(terms)
 
 
 def random_pace(source, axes):
@@ -150,6 +139,9 @@ class Stories(Case):
         self.refuses(TooMany("reports", 12), Story, 1, names[:4], six, reports)
         self.refuses(NoHappening("z"), Story, 1, names, travellers, [*reports, ("t1", Row.ahead("z", "a"))])
         self.refuses(TooMany("reports", 12), story.with_report, "t1", Row.ahead("a", "b"))
+        self.refuses(NoHappening("z"), story.with_report, "t1", Row.ahead("a", "z"))
+        self.refuses(BadRow("row"), story.with_report, "t1", None)
+        self.refuses(NoTraveller("t6"), story.with_report, "t6", None)
         self.assertEqual(len(story.without(11).with_report("t1", Row.ahead("a", "b")).reports), 12)
 
     def test_pace_of(self):

@@ -4,9 +4,9 @@ import random
 from itertools import combinations
 
 from helpers import Case, no_values
-from own import KINDS
+from own import KINDS, random_span
 from test_sayings import OwnRow
-from test_stories import GAP, MORE, PACES, TOLD, random_pace, random_span, random_story, some_stories, spots_keep, told_of, weights_mix
+from test_stories import GAP, MORE, PACES, TOLD, random_pace, random_story, some_stories, spots_keep, told_of, weights_mix
 from whosefirst.carried import carried_pace
 from whosefirst.errors import BadPace, BadRow, BadSpan, BadStory, Impossible, NoHappening, TooMany, Unlike
 from whosefirst.paces import Pace
@@ -215,6 +215,14 @@ class Paces(Case):
             self.is_told_right(story, -span)
         both = Story(1, ["a", "b"], far, [("left", Row.level("a", "b")), ("right", Row.ahead("a", "b"))])
         self.assertEqual(sure_paces(both, GAP), Stretch(Ratio(-9, 10), 1, False, False))
+
+    def test_an_end_beyond_light_is_lights(self):
+        """Here weights make the span asked with the pace -13/9, too, so late for sure is all from light's pace to -1/3."""
+        rows = [("one", Row(Span({"a": -1, "b": -1, "c": 2}), "=")), ("two", Row.ahead("b", "c")), ("three", Row.level("a", "c")), ("three", Row.ahead("a", "b"))]
+        for side, due in ((1, (-1, Ratio(-1, 3), False, True)), (-1, (Ratio(1, 3), 1, True, False))):
+            paces = {name: Pace([part * side]) for name, part in (("one", Ratio(-1, 9)), ("two", Ratio(2, 9)), ("three", Ratio(-1, 3)))}
+            story = Story(1, ["a", "b", "c"], paces, rows)
+            self.assertEqual(self.is_told_right(story, GAP).parts, due)
 
     def test_no_reports_no_travellers_one_name(self):
         self.assertIs(sure_paces(Story(1, ["a", "b"], {}, []), GAP), None)

@@ -10,7 +10,7 @@ from test_callers import random_rows, rows_kept_by
 from test_moved import some_books
 from test_sayings import OwnRow, random_parts
 from whosefirst.books import Book
-from whosefirst.callers import Nobody, Somebody, find_caller
+from whosefirst.callers import Somebody, find_caller
 from whosefirst.check_words import shows_word
 from whosefirst.errors import BadBook, BadPace, BadRow, BadSaying, Impossible, NoHappening, TooMany, Unlike
 from whosefirst.paces import Pace
@@ -254,7 +254,8 @@ class Shown(Case):
         for value in [*no_values(), [], [None], ["cut"], ["nobody"], ["cut", 1, None, None], ["cut", 1, None, None, None, None], ["nobody", [1], None],
                       ["side", "a", None, None], ["put", 1, []], "cut", {"cut": 1}]:
             with self.subTest(value=short(value)):
-                trees = [([value], 1, *right[2:]), ("cut", 1, None, ("nobody", value), right[4]), ("cut", 1, None, ("nobody", [value]), right[4])]
+                trees = [([value], 1, *right[2:]), (value if value != "cut" else None, 1, *right[2:]) if type(value) is str else (value, 1, *right[2:]),
+                         ("cut", 1, None, (value, [-1]), right[4]), ("cut", 1, None, ("nobody", value), right[4]), ("cut", 1, None, ("nobody", [value]), right[4])]
                 trees += [value, (*right[:4], value)] if value is not None else []
                 trees += [("cut", value, *right[2:])]
                 for tree in trees:

@@ -8,9 +8,9 @@ from whosefirst.calling import pace_or_weights
 
 
 def greatest_first(sets):
-    """The numbers of those sets that are not within another one; of equal ones just the first."""
+    """The numbers of those sets that are not within another one, of equal ones just the first; great sets first."""
     found = []
-    for number in sorted(range(len(sets)), key=lambda at: (-len(sets[at]), at)):
+    for _, number in sorted([(-len(one), number) for number, one in enumerate(sets)]):
         if not any([is_within_set(sets[number], sets[other]) for other in found]):
             found.append(number)
     return found

@@ -13,7 +13,7 @@ from whosefirst.riders import Rider, ask_rider
 from whosefirst.rows import is_row
 from whosefirst.sayings import ask_saying
 from whosefirst.settling import Look, are_open, joined_look, row_to_cut, settled_look, settled_parts
-from whosefirst.words import Always, Never, Open
+from whosefirst.words import Never, paper_of_look
 
 MOST_ROWS = 4
 MOST_NAMES = 4
@@ -124,9 +124,7 @@ def rider_word(book, saying, given=()):
     if look.keeper is None and look.breaker is None:
         # The sides that make the given rows clear come first: so no row is cut on a way that nobody goes.
         raise Impossible(Never(look.tree))
-    if look.keeper is None:
-        return Never(look.tree)
-    return Always(look.tree) if look.breaker is None else Open(look.keeper, look.breaker)
+    return paper_of_look(look)
 
 
 def ask_rider_word(book, saying, given):

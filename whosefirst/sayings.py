@@ -22,9 +22,7 @@ class Saying:
     def read(text):
         """The Saying about calling with this text."""
         words = Words(text)
-        saying = take_saying(words)
-        words.finish()
-        return saying
+        return take_saying(words)
 
     def __len__(self):
         return len(self.parts)

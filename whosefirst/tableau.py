@@ -7,7 +7,9 @@ class Tableau:
     """Equations solved for some of the unknown numbers, all others being 0.
 
     Each row has a number for each unknown and, behind them, what they come to, 0 or more;
-    `solved` has for each row the unknown that stands in it once, and in no other row.
+    `solved` has for each row the number of the unknown that stands in it once, and in no
+    other row. At first these are helpers, numbered behind the unknowns; as none of them
+    ever comes back, their own numbers in the rows are not kept.
     """
 
     def __init__(self, rows, solved):
@@ -72,8 +74,7 @@ def tableau_for(columns, aim):
     for at, number in enumerate(aim):
         # What a row comes to must be 0 or more: it is turned about if that is less.
         side = -1 if number.sign < 0 else 1
-        helper = [Ratio(1 if at == other else 0) for other in range(len(aim))]
-        rows.append([column[at] * side for column in columns] + helper + [number * side])
+        rows.append([column[at] * side for column in columns] + [number * side])
     tableau = Tableau(rows, [many + at for at in range(len(aim))])
     helpers = [Ratio(0)] * many + [Ratio(1)] * len(aim)
     tableau.lessen(helpers, list(range(many)))

@@ -55,13 +55,12 @@ def ways_of(order):
 def shares_to_look_at(book, one, other):
     """Shares of the way between two paces: its ends, all at which a pair is called level, and one between each two."""
     shares = [Ratio(0), Ratio(1)]
-    for name in book:
-        for more in book:
-            step = book.step_of(Span.between(name, more))
-            first, last = worth_of(step, one), worth_of(step, other)
-            if name < more and first.sign * last.sign == -1:
-                shares.append(first.over(first - last))
+    for span in [Span.between(name, more) for name in book for more in book if name < more]:
+        first, last = worth_of(book.step_of(span), one), worth_of(book.step_of(span), other)
+        if first.sign * last.sign == -1:
+            shares.append(first.over(first - last))
     numbers, bottom = over_one_bottom(shares)
     ascending = sorted(set(numbers))
-    middles = [one_number + more for one_number, more in zip(ascending, ascending[1:])]
-    return [Ratio(number, 2 * bottom) for number in sorted([*middles, *[2 * number for number in ascending]])]
+    doubled = [2 * number for number in ascending]
+    middles = [number + more for number, more in zip(ascending, ascending[1:])]
+    return [Ratio(number, 2 * bottom) for number in sorted(doubled + middles)]

@@ -82,7 +82,11 @@ def word_of(book, saying, given=()):
     if not somebody:
         raise Impossible(somebody)
     search = CallerSearch(book, saying)
-    look = search.look([book.step_of(row.span) for row in given], [row.kind for row in given], {})
+    return paper_of_look(search.look([book.step_of(row.span) for row in given], [row.kind for row in given], {}))
+
+
+def paper_of_look(look):
+    """The Always, the Never or the Open that a Look from the top tells, if somebody is asked."""
     if look.keeper is None:
         return Never(look.tree)
     return Always(look.tree) if look.breaker is None else Open(look.keeper, look.breaker)
