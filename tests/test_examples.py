@@ -1,6 +1,8 @@
 """The examples of the document, as they stand there: tests/examples.txt holds those of the files that are written."""
 
+import ast
 import importlib
+import inspect
 import os
 import unittest
 
@@ -18,11 +20,21 @@ def headings():
 
 
 def names_of(modules):
-    """All names of some modules, as examples leave imports out."""
+    """All functions and classes of some modules, as examples leave imports out."""
     names = {}
     for module in modules:
-        names.update({name: value for name, value in vars(importlib.import_module(f"whosefirst.{module}")).items() if name[0] != "_"})
+        whole = f"whosefirst.{module}"
+        names.update({name: value for name, value in vars(importlib.import_module(whole)).items() if getattr(value, "__module__", "") == whole})
     return names
+
+
+def told_error(text):
+    """The class of an error, as an example tells it, and those of its fields that are told there."""
+    call = ast.parse(text, mode="eval").body
+    cls = getattr(errors, call.func.id)
+    values = [ast.literal_eval(value) for value in call.args]
+    named = {word.arg: ast.literal_eval(word.value) for word in call.keywords}
+    return cls, dict(inspect.signature(cls).bind_partial(*values, **named).arguments)
 
 
 class Examples(unittest.TestCase):
@@ -42,11 +54,11 @@ class Examples(unittest.TestCase):
         if answer == "" or answer.startswith(">>> "):
             exec(code, names)
         elif answer.startswith("raises "):
-            due = eval(answer[len("raises "):], dict(vars(errors)))
-            with self.assertRaises(type(due)) as caught:
+            cls, fields = told_error(answer[len("raises "):])
+            with self.assertRaises(cls) as caught:
                 eval(code, names)
-            self.assertIs(type(caught.exception), type(due))
-            self.assertEqual(vars(caught.exception), vars(due))
+            self.assertIs(type(caught.exception), cls)
+            self.assertEqual({name: vars(caught.exception)[name] for name in fields}, fields)
         else:
             self.assertEqual(repr(eval(code, names)), answer)
 

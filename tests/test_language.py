@@ -16,7 +16,7 @@ DOUBLE = set("""__init__ __eq__ __repr__ __str__ __len__ __iter__ __contains__ _
     __invert__""".split())
 BARRED = set("""register mro elements open input law version_info with_traceback add_note attrgetter breakpoint builtins compile copyright
     credits delattr dir eval exec exit gc globals help id importlib license locals methodcaller os quit vars sys""".split())
-STATEMENTS = (ast.FunctionDef, ast.ClassDef, ast.Return, ast.Assign, ast.For, ast.While, ast.If, ast.Raise, ast.Expr, ast.Pass, ast.Break,
+STATEMENTS = (ast.FunctionDef, ast.ClassDef, ast.Return, ast.Assign, ast.For, ast.While, ast.If, ast.Raise, ast.Expr, ast.Pass, ast.Break, ast.Try,
               ast.Continue, ast.Delete, ast.ImportFrom)
 EXPRESSIONS_BARRED = (ast.GeneratorExp, ast.Await, ast.Yield, ast.YieldFrom, ast.NamedExpr, ast.Set, ast.AnnAssign, ast.Div, ast.MatMult)
 

@@ -35,11 +35,9 @@ class Pace:
     def read(text):
         """The Pace with this text."""
         words = Words(text)
-        parts = [take_part(words, [])]
-        while not words.is_done() and is_axes(len(parts) + 1):
-            parts.append(take_part(words, parts))
+        pace = take_pace(words)
         words.finish()
-        return Pace(parts)
+        return pace
 
     def mixed(self, other, share):
         """The Pace that is a share of the way to another one."""
@@ -74,6 +72,14 @@ def squares_of(parts):
 def is_share(value):
     """Whether any value is a ratio from 0 to 1."""
     return is_ratio(value) and Ratio.of(value).sign >= 0 and not Ratio(1).is_below(value)
+
+
+def take_pace(words):
+    """The coming words of a text, as far as they can make one, as a Pace."""
+    parts = [take_part(words, [])]
+    while not words.is_done() and is_axes(len(parts) + 1):
+        parts.append(take_part(words, parts))
+    return Pace(parts)
 
 
 def take_part(words, ahead):

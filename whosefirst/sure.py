@@ -61,12 +61,7 @@ class Stretch(Paper):
 
 def sure_row(story, pace, row):
     """The Sure, the Against or the Unsure of a row that is asked of a traveller of a pace."""
-    ask_story(story)
-    ask_pace(pace, "pace")
-    if not isinstance(row, Row):
-        raise BadRow("row")
-    ask_equal_axes(pace, story)
-    ask_row_names(story.names, [row])
+    ask_sure_row(story, pace, row)
     told = held_reports(story)
     spots, weights = spots_or_weights(story, [*told, (pace, row)])
     if spots is None:
@@ -120,6 +115,16 @@ def held_reports(story):
     if spots is None:
         raise Impossible(Mixed(weights))
     return told
+
+
+def ask_sure_row(story, pace, row):
+    """The parameters must be a story, a pace of its axes and a Row about its names."""
+    ask_story(story)
+    ask_pace(pace, "pace")
+    if not isinstance(row, Row):
+        raise BadRow("row")
+    ask_equal_axes(pace, story)
+    ask_row_names(story.names, [row])
 
 
 def is_late_for_sure(story, told, span, part):
