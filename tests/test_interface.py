@@ -63,14 +63,40 @@ LISTED = {
                 "Story.without": "self number", "Story.__eq__": None, "Held": "spots", "Mixed": "weights", "held": "story"},
     "sure": {"Sure": "weights", "Unsure": "one other", "Struck": "numbers spots papers", "Stretch": "low high is_low_in is_high_in", "Against": "weights",
              "sure_row": "story pace row", "sure_paces": "story span", "fewest_struck": "story"},
+    "check_stories": {"shows_held": "story value", "shows_sure": "story pace row value", "shows_struck": "story value"},
+    "tables": {"Table": "names pairs", "Table.read": "text", "Table.of": "book", "Table.__eq__": None, "Table.__str__": None, "apart_in": "table",
+               "is_order": "table", "sides_with": "table left right"},
+    "placed": {"Placed": "book", "NoOrder": "one middle other", "Ring": "pairs", "placed": "table", "pattern_of": "book", "placed_as": "table pattern"},
+    "parts": {"turned_parts": "table", "patterns_count": "table", "all_patterns": "table", "bond_of": "table one other third fourth"},
+    "check_tables": {"shows_placed": "table value"},
+    "weaves": {"Weave": "moves", "Weave.read": "text", "Weave.__eq__": None, "Weave.__str__": None, "lights_passed": "book", "fits_weave": "book weave",
+               "woven_order": "book weave"},
+    "eyes": {"Eye": "corners", "Eye.__eq__": None, "eye_place": "eye time", "sight_of": "book eye name", "seen_by": "book eye", "weave_of": "book eye",
+             "eye_of": "book weave"},
+    "seen": {"SeenBy": "weave", "Unseen": "states", "find_eye": "book order"},
+    "brought": {"brought_by": "book names", "least_bringing": "book names", "bringers_of": "book name"},
+    "seen_counts": {"seen_count": "book", "seen_number": "book number", "number_seen": "book order"},
+    "resting": {"resting_order": "book place", "resting_orders": "book"},
+    "eye_words": {"SeenRow": "one other kind", "SeenRow.read": "text", "SeenRow.__eq__": None, "SeenRow.__str__": None, "sees_ahead": "one other",
+                  "sees_with": "one other", "sees_first": "name names", "sees_last": "name names", "truth_in": "order saying",
+                  "eye_word": "book saying begun=()"},
+    "check_eyes": {"shows_seen": "book order value", "shows_eye_word": "book saying begun value"},
+    "passers": {"Passers": "paces who apart", "stretch_of": "book rows", "fewest_passers": "book accounts"},
+    "check_passers": {"shows_passers": "book accounts value"},
+    "clocks": {"Tour": "parts", "Tour.joined": "self other", "Tour.read": "text", "Tour.__eq__": None, "Tour.__str__": None, "straight_square": "tour",
+               "spot_at": "tour age", "age_of_news": "tour step"},
+    "beats": {"beats_right": "k other beats", "beats_left": "k other beats", "echo_beats": "k other beats", "middle_beats": "k other beats"},
+    "desk": {"Desk": "book lines=()", "Desk.tell": "self line", "Desk.run": "self lines", "Desk.back": "self", "Desk.told_lines": "self",
+             "Desk.kept_names": "self", "Desk.saying_of": "self name", "Desk.__eq__": None},
 }
 BELOW = {("papers", "Denial"): ("papers", "Paper"), ("chains", "Messengers"): ("papers", "Paper"), ("chains", "LongChain"): ("papers", "Paper"),
-         ("rows", "Row"): ("rows", "AnyRow"), ("rider_rows", "RiderRow"): ("rows", "AnyRow"), ("rider_rows", "SideRow"): ("rows", "AnyRow"),
+         ("eye_words", "SeenRow"): ("rows", "AnyRow"), ("rows", "Row"): ("rows", "AnyRow"), ("rider_rows", "RiderRow"): ("rows", "AnyRow"), ("rider_rows", "SideRow"): ("rows", "AnyRow"),
          **{(file, name): ("papers", "Denial") for file, name in (("callers", "Nobody"), ("clashes", "Clash"), ("words", "Never"), ("stories", "Mixed"),
-                                                                  ("sure", "Against"))},
+                                                                  ("sure", "Against"), ("placed", "NoOrder"), ("placed", "Ring"), ("seen", "Unseen"))},
          **{(file, name): ("papers", "Paper") for file, name in (
              ("callers", "Somebody"), ("words", "Always"), ("words", "Open"), ("flats", "Flat"), ("orders", "Called"), ("records", "Records"),
-             ("stories", "Held"), ("sure", "Sure"), ("sure", "Unsure"), ("sure", "Struck"), ("sure", "Stretch"))}}
+             ("stories", "Held"), ("sure", "Sure"), ("sure", "Unsure"), ("sure", "Struck"), ("sure", "Stretch"), ("placed", "Placed"), ("seen", "SeenBy"),
+             ("passers", "Passers"))}}
 
 
 def module_of(name):

@@ -3,7 +3,8 @@
 import random
 
 from helpers import Case, no_integers, no_lists, no_names, no_values
-from own import KINDS, exact, holds, random_span, sign_of
+from own import KINDS, random_span, sign_of
+from own_stories import do_keep, do_mix, spot_worth, told_of
 from test_sayings import OwnRow
 from whosefirst.errors import BadNumber, BadRow, BadStory, NoHappening, NoTraveller, TooMany, Twice, Unlike
 from whosefirst.paces import Pace
@@ -21,44 +22,9 @@ MORE = TOLD.with_report("fast", Row.ahead("b", "a"))
 GAP = Span.between("a", "b")
 
 
-def spot_worth(spots, pace, span):
-    """The worth of a span at a pace by spots, pairs of a name and a Step."""
-    steps = dict(spots)
-    total = 0
-    for name, times in span.terms:
-        step = steps[name]
-        total += exact(times) * (exact(step.time) - sum(exact(part) * exact(number) for part, number in zip(pace.parts, step.place)))
-    return total
-
-
-def told_of(story):
-    """The reports of a story as pairs of a pace and a row."""
-    return [(story.pace_of(traveller), row) for traveller, row in story.reports]
-
-
-def spots_keep(story, spots, told):
-    """Whether spots are such of a story, and keep pairs of a pace and a row."""
-    if type(spots) is not tuple or [type(pair) is tuple and len(pair) == 2 and pair[0] for pair in spots] != list(story.names):
-        return False
-    if not all(type(step) is Step and step.axes == story.axes for _, step in spots):
-        return False
-    return all(holds(row.kind, sign_of(spot_worth(spots, pace, row.span))) for pace, row in told)
-
-
 def weights_mix(story, weights, told):
-    """Whether weights mix pairs of a pace and a row."""
-    if type(weights) is not tuple or len(weights) != len(told) or not all(type(weight) is Ratio for weight in weights):
-        return False
-    if any(weight.sign < 0 and row.kind != "=" for weight, (_, row) in zip(weights, told)):
-        return False
-    for axis in [None, *range(story.axes)]:
-        for name in story.names:
-            total = 0
-            for weight, (pace, row) in zip(weights, told):
-                total += exact(weight) * exact(row.span.number_of(name)) * (1 if axis is None else exact(pace.parts[axis]))
-            if total:
-                return False
-    return any(weight.sign > 0 and row.kind == ">" for weight, (_, row) in zip(weights, told))
+    """Whether Ratios are weights that mix pairs of a pace and a row."""
+    return do_mix(story, weights, told) and all(type(weight) is Ratio for weight in weights)
 
 
 def random_pace(source, axes):
@@ -167,7 +133,7 @@ class Holding(Case):
     def is_told_right(self, story, paper):
         if paper:
             self.assertIs(type(paper), Held)
-            self.assertTrue(spots_keep(story, paper.spots, told_of(story)))
+            self.assertTrue(do_keep(story, paper.spots, told_of(story)))
         else:
             self.assertIs(type(paper), Mixed)
             self.assertTrue(weights_mix(story, paper.weights, told_of(story)))
@@ -191,7 +157,7 @@ class Holding(Case):
                     sign = sign_of(spot_worth(spots, story.pace_of(traveller), span))
                     kind = source.choice([">", ">=", ">"] if sign else [">=", "="])
                     story = story.with_report(traveller, Row(span * (sign or 1), kind))
-                self.assertTrue(spots_keep(story, spots, told_of(story)))
+                self.assertTrue(do_keep(story, spots, told_of(story)))
                 self.assertTrue(held(story))
                 self.is_told_right(story, held(story))
 

@@ -5,8 +5,9 @@ from itertools import combinations
 
 from helpers import Case, no_values
 from own import KINDS, random_span
+from own_stories import do_keep, told_of
 from test_sayings import OwnRow
-from test_stories import GAP, MORE, PACES, TOLD, random_pace, random_story, some_stories, spots_keep, told_of, weights_mix
+from test_stories import GAP, MORE, PACES, TOLD, random_pace, random_story, some_stories, weights_mix
 from whosefirst.carried import carried_pace
 from whosefirst.errors import BadPace, BadRow, BadSpan, BadStory, Impossible, NoHappening, TooMany, Unlike
 from whosefirst.paces import Pace
@@ -43,8 +44,8 @@ class Rows(Case):
             self.assertTrue(weights_mix(story, paper.weights, [*told, (pace, row)]))
         else:
             self.assertIs(type(paper), Unsure)
-            self.assertTrue(spots_keep(story, paper.one, [*told, (pace, row)]))
-            self.assertTrue(any(spots_keep(story, paper.other, reports) for reports in contraries))
+            self.assertTrue(do_keep(story, paper.one, [*told, (pace, row)]))
+            self.assertTrue(any(do_keep(story, paper.other, reports) for reports in contraries))
 
     def test_random_rows(self):
         source = random.Random(110)
@@ -245,7 +246,7 @@ class Strikes(Case):
         told = told_of(story)
         sets = [numbers for many in range(len(told) + 1) for numbers in combinations(range(len(told)), many)]
         at = sets.index(paper.numbers)
-        self.assertTrue(spots_keep(story, paper.spots, [report for number, report in enumerate(told) if number not in paper.numbers]))
+        self.assertTrue(do_keep(story, paper.spots, [report for number, report in enumerate(told) if number not in paper.numbers]))
         self.assertEqual(len(paper.papers), at)
         for numbers, weights in zip(sets, paper.papers):
             self.assertTrue(weights_mix(story, weights, [report for number, report in enumerate(told) if number not in numbers]))
