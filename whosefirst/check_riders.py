@@ -5,7 +5,7 @@ from whosefirst.forms import added_forms
 from whosefirst.ratios import Ratio, are_ratios
 from whosefirst.rider_forms import FORM_SIZE, form_of_row
 from whosefirst.rider_rows import rider_worth
-from whosefirst.rider_words import Way, ask_rider_word, rider_truth
+from whosefirst.rider_words import ask_rider_word, first_way, rider_truth
 from whosefirst.riders import Rider
 from whosefirst.rows import is_kept
 from whosefirst.settling import settled_parts
@@ -16,9 +16,9 @@ def shows_rider_word(book, saying, given, value):
     """Whether any value is an Always or a Never with a right tree, or an Open with two riders that show it."""
     ask_rider_word(book, saying, given)
     if type(value) is Always:
-        return Check(book, saying, given, True).is_right(value.tree, Way([], [], {}, {}))
+        return Check(book, saying, given, True).is_right(value.tree, first_way(book, given))
     if type(value) is Never:
-        return Check(book, saying, given, False).is_right(value.tree, Way([], [], {}, {}))
+        return Check(book, saying, given, False).is_right(value.tree, first_way(book, given))
     if type(value) is not Open:
         return False
     if not is_rider_for(book, value.one, given) or not is_rider_for(book, value.other, given):
@@ -59,9 +59,9 @@ class Check:
         _, name, left, right = tree
         if name not in self.book or name in way.sides:
             return False
-        if not self.is_right(left, way.with_side(self.book, name, "left")):
+        if not self.is_right(left, way.with_side(self.book, self.given, name, "left")):
             return False
-        return self.is_right(right, way.with_side(self.book, name, "right"))
+        return self.is_right(right, way.with_side(self.book, self.given, name, "right"))
 
     def is_right_cut(self, tree, way):
         """Whether a tree that cuts a row is right."""
@@ -78,10 +78,11 @@ class Check:
 
     def are_nobodys(self, weights, way):
         """Whether any value is a list of nobody's weights for the given rows and what is told on a way."""
-        if not are_ratios(weights) or len(weights) != len(self.given) + len(way.forms):
+        told = way.given + way.told
+        if not are_ratios(weights) or len(weights) != len(told):
             return False
-        forms = [form_of_row(self.book, row, way.sides) for row in self.given] + way.forms
-        kinds = [row.kind for row in self.given] + way.kinds
+        kinds = [row.kind for row in self.given] + [one.kind for one in way.told]
+        forms = [None if one is None else one.form for one in told]
         signs = [Ratio.of(weight).sign for weight in weights]
         for form, kind, sign in zip(forms, kinds, signs):
             if (sign < 0 and kind != "=") or (sign != 0 and form is None):

@@ -3,13 +3,13 @@
 A level is all paces at which some pairs are level, and as a rule no other one: of all
 paces a sheet, a line or one point. Where it is crossed by lesser levels it falls into
 parts; each of them lies beside a part of a lesser level, so is come to by a step aside.
+Points are pairs of whole numbers and what these are over; ways are whole numbers.
 """
 
-from whosefirst.calling import share_to_lean, worth_at
+from whosefirst.calling import pace_at, room_to_light, share_to_lean
 from whosefirst.errors import TooMany
-from whosefirst.nearest import dot_product, moved_along
-from whosefirst.paces import Pace, squares_of
-from whosefirst.ratios import Ratio, over_one_bottom
+from whosefirst.paces import whole_worth
+from whosefirst.ratios import lowest, sign_of, whole_product
 from whosefirst.spans import Span
 from whosefirst.telling import apart_pairs
 
@@ -32,7 +32,7 @@ class Level:
 def levels_of(book):
     """All Levels of a book, those of which most pairs ask most first; pairs have their numbers in `apart_pairs`."""
     steps = [book.step_of(Span.between(one, other)) for one, other in apart_pairs(book)]
-    levels = {(): Level((), [], [Ratio(0)] * book.axes)}
+    levels = {(): Level((), [], ([0] * book.axes, 1))}
     ahead = [levels[()]]
     while ahead:
         level = ahead.pop()
@@ -54,31 +54,32 @@ def levels_of(book):
 def crossed_by(level, number, steps):
     """The lesser Level that the pair with a number makes of a Level, and the way to it; None, None without one."""
     step = steps[number]
-    way = left_of_frame(step.place, level.frame)
+    way = left_of_frame(step, level.frame)
     if not any(way):
         return None, None
-    length = worth_at(step, level.point).over(dot_product(step.place, way))
-    point = moved_along(level.point, way, length)
-    if not squares_of(point).is_below(1):
+    numbers, bottom = level.point
+    worth, along = whole_worth(step.numbers, numbers, bottom), whole_product(step.numbers[1:], way)
+    point = lowest([part * along + more * worth for part, more in zip(numbers, way)], bottom * along)
+    if room_to_light(point[0], point[1]) <= 0:
         return None, None
     frame = [*level.frame, way]
     return Level(numbers_level_on(frame, point, steps), frame, point), way
 
 
-def left_of_frame(place, frame):
-    """What is left of a place, in whole numbers, if it must stand straight on all ways of a frame."""
-    way = list(place)
+def left_of_frame(step, frame):
+    """What is left of the place of a step, in whole numbers, if it must stand straight on all ways of a frame."""
+    way, below = step.numbers[1:], step.bottom
     for side in frame:
-        share = dot_product(place, side).over(dot_product(side, side))
-        way = [part - share * along for part, along in zip(way, side)]
-    numbers, _ = over_one_bottom(way)
-    return [Ratio(number) for number in numbers]
+        square, share = whole_product(side, side), whole_product(way, side)
+        way = [part * square - share * along for part, along in zip(way, side)]
+        below = below * square
+    return lowest(way, below)[0]
 
 
 def numbers_level_on(frame, point, steps):
     """The numbers of the pairs that are level at all paces of a level."""
-    level = [number for number, step in enumerate(steps) if worth_at(step, point).sign == 0]
-    return tuple([number for number in level if not any(left_of_frame(steps[number].place, frame))])
+    level = [number for number, step in enumerate(steps) if whole_worth(step.numbers, point[0], point[1]) == 0]
+    return tuple([number for number in level if not any(left_of_frame(steps[number], frame))])
 
 
 def points_in_parts(level, levels, steps):
@@ -88,32 +89,35 @@ def points_in_parts(level, levels, steps):
     points = {}
     for numbers in level.crossed:
         way = level.crossed[numbers]
-        for side in (way, [-part for part in way]):
-            for point in levels[numbers].points:
-                signs = signs_beside(point, side, steps)
-                if signs not in points:
-                    points[signs] = point_beside(point, side, steps)
+        for point in levels[numbers].points:
+            signs = [sign_of(whole_worth(step.numbers, point[0], point[1])) for step in steps]
+            for side in (way, [-part for part in way]):
+                beside = signs_beside(signs, side, steps)
+                if beside not in points:
+                    points[beside] = point_beside(point, signs, side, steps)
     return list(points.values())
 
 
-def signs_beside(point, way, steps):
-    """The signs of the worths of all steps just beside a point."""
-    signs = [worth_at(step, point).sign for step in steps]
-    return tuple([sign if sign != 0 else -dot_product(step.place, way).sign for sign, step in zip(signs, steps)])
+def signs_beside(signs, way, steps):
+    """The signs of the worths of all steps just beside a point, by those at the point."""
+    falls = [whole_product(step.numbers[1:], way) for step in steps]
+    return tuple([sign if sign != 0 else -sign_of(fall) for sign, fall in zip(signs, falls)])
 
 
-def point_beside(point, way, steps):
+def point_beside(point, signs, way, steps):
     """A point so little beside another one that nothing that is not level there changes its sign."""
-    signs = [worth_at(step, point).sign for step in steps]
-    late = [step * sign for sign, step in zip(signs, steps) if sign != 0]
-    share = share_to_lean(point, way, late)
+    late = [[sign * number for number in step.numbers] for sign, step in zip(signs, steps) if sign != 0]
+    share = share_to_lean(point, (way, 1), late)
     # A lesser share with a short text serves as well.
-    return moved_along(point, way, Ratio(1, -(-share.bottom // share.top)))
+    many = -(-share.bottom // share.top)
+    numbers, bottom = point
+    return lowest([part * many + more * bottom for part, more in zip(numbers, way)], bottom * many)
 
 
 def paces_in_parts(book):
     """For each level the numbers of its pairs, and a Pace in each part of it."""
-    return [(level.numbers, [Pace(point) for point in level.points]) for level in levels_of(book)]
+    levels = levels_of(book)
+    return [(level.numbers, [pace_at(numbers, bottom) for numbers, bottom in level.points]) for level in levels]
 
 
 def ask_few(book, mosts):

@@ -3,18 +3,14 @@
 from whosefirst.asks import ask_happening
 from whosefirst.checks import are_names, first_twice, is_listed
 from whosefirst.errors import BadOrder, Twice, Unlike
-from whosefirst.ratios import least_of
+from whosefirst.ratios import over_one_bottom
 
 
 def order_by(numbers):
     """The order of the names of a dict from names to Ratios: least first, a lot has one number."""
-    lots = []
-    left = sorted(list(numbers))
-    while left:
-        least = least_of([numbers[name] for name in left])
-        lots.append(tuple([name for name in left if numbers[name] == least]))
-        left = [name for name in left if numbers[name] != least]
-    return tuple(lots)
+    names = sorted(list(numbers))
+    whole, _ = over_one_bottom([numbers[name] for name in names])
+    return tuple([tuple([name for name, one in zip(names, whole) if one == least]) for least in sorted(set(whole))])
 
 
 def ask_order(order, part):

@@ -2,7 +2,7 @@
 
 from whosefirst.asks import ask_axes, ask_axis, ask_equal_axes, asked_above_nought, is_axes
 from whosefirst.errors import BadNumber, BadPace, BadText
-from whosefirst.ratios import Ratio, are_ratios, is_ratio, summed, take_ratio
+from whosefirst.ratios import Ratio, are_ratios, is_ratio, over_one_bottom, summed, take_ratio, whole_product
 from whosefirst.texts import Words
 
 
@@ -10,11 +10,15 @@ class Pace:
     """A ratio for each axis, the squares adding up to less than 1."""
 
     def __init__(self, parts):
-        if not are_parts(parts):
+        if not are_ratios(parts) or not is_axes(len(parts)):
             raise BadPace("parts")
         self.parts = tuple([Ratio.of(part) for part in parts])
         self.axes = len(self.parts)
-        self.square = squares_of(self.parts)
+        # The parts in whole numbers over one bottom: worths are told by these.
+        self.numbers, self.bottom = over_one_bottom(self.parts)
+        self.square = Ratio(whole_product(self.numbers, self.numbers), self.bottom * self.bottom)
+        if not self.square.is_below(1):
+            raise BadPace("parts")
 
     @staticmethod
     def rest(axes):
@@ -57,18 +61,6 @@ class Pace:
         return " ".join([str(part) for part in self.parts])
 
 
-def are_parts(parts):
-    """Whether any value is a list of one to three ratios with squares that add up to less than 1."""
-    if not are_ratios(parts) or not is_axes(len(parts)):
-        return False
-    return squares_of(parts).is_below(1)
-
-
-def squares_of(parts):
-    """The sum of the squares of some ratios."""
-    return summed([Ratio.of(part) * part for part in parts])
-
-
 def is_share(value):
     """Whether any value is a ratio from 0 to 1."""
     return is_ratio(value) and Ratio.of(value).sign >= 0 and not Ratio(1).is_below(value)
@@ -85,7 +77,7 @@ def take_pace(words):
 def take_part(words, ahead):
     """The next word of a text as the part of a pace behind the parts ahead; slower than light with these."""
     part = take_ratio(words)
-    if not squares_of([*ahead, part]).is_below(1):
+    if not summed([one * one for one in [*ahead, part]]).is_below(1):
         raise BadText(0, words.at - 1)
     return part
 
@@ -98,7 +90,9 @@ def ask_pace(value, part):
 
 def worth_of(step, pace):
     """The worth of a step for the traveller of a pace with its axes."""
-    worth = step.time
-    for part, number in zip(pace.parts, step.place):
-        worth = worth - part * number
-    return worth
+    return Ratio(whole_worth(step.numbers, pace.numbers, pace.bottom), step.bottom * pace.bottom)
+
+
+def whole_worth(row, numbers, bottom):
+    """The worth of a step, told by whole numbers, at a pace of any square, times the bottom of this."""
+    return row[0] * bottom - whole_product(row[1:], numbers)

@@ -11,14 +11,15 @@ class Ratio:
     """An exact fraction in lowest terms, its bottom above 0."""
 
     def __init__(self, top, bottom=1):
-        if not is_integer(top):
+        # Ratios are made again and again, so what nearly all tops and bottoms are is looked at first.
+        if type(top) is not int and not is_integer(top):
             raise BadRatio("top")
-        if not is_integer(bottom) or bottom == 0:
+        if (type(bottom) is not int and not is_integer(bottom)) or bottom == 0:
             raise BadRatio("bottom")
         common = gcd(top, bottom) if bottom > 0 else -gcd(top, bottom)
         self.top = top // common
         self.bottom = bottom // common
-        self.sign = sign_of(self.top)
+        self.sign = 0 if self.top == 0 else 1 if self.top > 0 else -1
 
     @staticmethod
     def of(value):
@@ -141,6 +142,19 @@ def over_one_bottom(ratios):
     for ratio in ratios:
         bottom = lcm(bottom, ratio.bottom)
     return [ratio.top * (bottom // ratio.bottom) for ratio in ratios], bottom
+
+
+def lowest(numbers, bottom):
+    """Some whole numbers and what they are over, without a common divisor."""
+    common = bottom
+    for number in numbers:
+        common = gcd(common, number)
+    return [number // common for number in numbers], bottom // common
+
+
+def whole_product(one, other):
+    """The sum of the products of two rows of whole numbers, part by part."""
+    return sum([part * factor for part, factor in zip(one, other)])
 
 
 def ratio_of_word(word):

@@ -1,15 +1,14 @@
 """Records: what a reader takes from called orders, and the fewest that tell a book."""
 
 from whosefirst.books import ask_book
-from whosefirst.called import called_sign
 from whosefirst.checks import is_listed
 from whosefirst.errors import BadOrder
 from whosefirst.grouping import Sharing, fewest_sets, greatest_first
 from whosefirst.levels import ask_few, paces_in_parts
 from whosefirst.lots import are_lots, ask_once, ask_same_names, lot_numbers
-from whosefirst.paces import Pace
+from whosefirst.paces import Pace, worth_of
 from whosefirst.papers import Paper
-from whosefirst.rows import Row, is_kept
+from whosefirst.rows import Row
 from whosefirst.spans import Span
 from whosefirst.telling import apart_pairs
 
@@ -46,13 +45,13 @@ def fewest_records(book):
     if not demands:
         return Records([] if len(book) == 1 else [Pace.rest(book.axes)], None)
     paces = [pace for _, found in paces_in_parts(book) for pace in found]
-    sets = [demands_kept(book, pace, demands) for pace in paces]
+    steps = [book.step_of(demand.span) for demand in demands]
+    sets = [demands_kept(pace, steps) for pace in paces]
     greatest = greatest_first(sets)
     paces, sets = [paces[number] for number in greatest], [sets[number] for number in greatest]
     fewest = fewest_sets(sets, list(range(len(demands))))
     if len(fewest) == 1:
         return Records([paces[fewest[0]]], None)
-    steps = [book.step_of(demand.span) for demand in demands]
     sharing = Sharing(steps, book.axes, sets, len(fewest) - 1)
     return Records([paces[number] for number in fewest], sharing.tree_below([]))
 
@@ -66,7 +65,6 @@ def demands_of(book):
     return demands
 
 
-def demands_kept(book, pace, demands):
-    """The numbers of the demands that a pace keeps, as a dict of True."""
-    signs = [called_sign(book, pace, demand.span) for demand in demands]
-    return {number: True for number, sign in enumerate(signs) if is_kept(">=", sign)}
+def demands_kept(pace, steps):
+    """The numbers of the demands that a pace keeps, as a dict of True, by the steps of their spans."""
+    return {number: True for number, step in enumerate(steps) if worth_of(step, pace).sign >= 0}

@@ -17,7 +17,9 @@ class Step:
         self.time = Ratio.of(time)
         self.place = tuple([Ratio.of(number) for number in place])
         self.axes = len(self.place)
-        self.square = square_of(self.time, self.place)
+        # The time and the place in whole numbers over one bottom: searches go by these.
+        self.numbers, self.bottom = over_one_bottom([self.time, *self.place])
+        self.square = square_of(self.numbers, self.bottom)
         self.kind = kind_of(self.time, self.square)
 
     @staticmethod
@@ -66,9 +68,8 @@ def ask_other(step, other):
     ask_equal_axes(step, other)
 
 
-def square_of(time, place):
-    """The square of a step; in whole numbers, as that is made lowest terms just once."""
-    numbers, bottom = over_one_bottom([time, *place])
+def square_of(numbers, bottom):
+    """The square of a step by its whole numbers, so that it is made lowest terms just once."""
     first = numbers[0]
     return Ratio(first * first - sum([number * number for number in numbers[1:]]), bottom * bottom)
 

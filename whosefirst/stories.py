@@ -3,9 +3,10 @@
 from whosefirst.asks import is_axes
 from whosefirst.checks import are_names, first_twice, is_listed, is_name, is_within
 from whosefirst.errors import BadNumber, BadRow, BadStory, NoHappening, NoTraveller, TooMany, Twice, Unlike
-from whosefirst.forms import point_or_weights
+from whosefirst.forms import Told, point_or_weights
 from whosefirst.paces import Pace
 from whosefirst.papers import Denial, Paper
+from whosefirst.ratios import Ratio
 from whosefirst.rows import Row
 from whosefirst.steps import Step
 
@@ -101,10 +102,11 @@ def spots_or_weights(story, told):
     moved together.
     """
     names = story.names[1:]
-    forms = [form_of_report(names, pace, row.span) for pace, row in told]
-    numbers, weights = point_or_weights(forms, [row.kind for _, row in told], len(names) * (story.axes + 1))
-    if numbers is None:
+    forms = [Told(form_of_report(names, pace, row.span), row.kind) for pace, row in told]
+    point, weights = point_or_weights(forms, len(names) * (story.axes + 1))
+    if point is None:
         return None, weights
+    numbers = [Ratio(number, point[1]) for number in point[0]]
     spots = [(story.names[0], Step.nothing(story.axes))]
     for at, name in enumerate(names):
         begin = at * (story.axes + 1)

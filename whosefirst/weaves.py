@@ -4,7 +4,7 @@ from whosefirst.books import ask_book
 from whosefirst.errors import BadText, BadWeave, Unlike
 from whosefirst.lots import order_by
 from whosefirst.news import ask_road, left_of, right_of
-from whosefirst.ratios import least_of
+from whosefirst.ratios import Ratio, least_of
 from whosefirst.texts import Words
 
 MOVES = ("u", "w", "b")
@@ -93,7 +93,8 @@ def order_woven(book, weave):
     right_moves = [at for at, move in enumerate(weave.moves) if move != "w"]
     left_moves = [at for at, move in enumerate(weave.moves) if move != "u"]
     numbers = light_numbers(book)
-    return order_by({name: max(right_moves[numbers[name][0]], left_moves[numbers[name][1]]) for name in numbers})
+    moments = {name: max(right_moves[right], left_moves[left]) for name, (right, left) in numbers.items()}
+    return order_by({name: Ratio(moments[name]) for name in moments})
 
 
 def ask_weave(value):

@@ -36,28 +36,52 @@ class Never(Denial):
         self.tree = self.parts[0]
 
 
+class Way:
+    """A way down a tree: the steps and kinds of the given rows and of the cuts on it, and the signs of these."""
+
+    def __init__(self, steps, kinds, cuts):
+        self.steps = steps
+        self.kinds = kinds
+        self.cuts = cuts
+
+    def with_cut(self, number, sign, step):
+        """The way, and below it a row cut, its span being called with this sign; the step is that of the span."""
+        steps = [*self.steps, -step if sign < 0 else step]
+        return Way(steps, [*self.kinds, ">" if sign != 0 else "="], {**self.cuts, number: sign})
+
+    def answer(self):
+        """A Pace that keeps all rows on the way, and None; or None, and nobody's weights."""
+        return pace_or_weights(self.steps, self.kinds, self.steps[0].axes)
+
+
 class CallerSearch:
-    """The search for a word goes down by cuts: the steps and kinds of the given rows and the cuts lead it."""
+    """The search for a word goes down by cuts."""
 
     def __init__(self, book, saying):
         self.saying = saying
         self.steps = [book.step_of(row.span) for row in saying.rows]
-        self.axes = book.axes
 
-    def look(self, steps, kinds, cuts):
-        """The Look at the place to which these lead; it ends as soon as both are found."""
-        pace, weights = pace_or_weights(steps, kinds, self.axes)
+    def look(self, way, known):
+        """The Look at the end of a way; it ends as soon as both are found.
+
+        What is known is a pace that keeps all rows on the way, or None. So nobody is searched
+        where that traveller goes; who is told at last, is searched on the way that was found.
+        """
+        pace = known
         if pace is None:
-            return Look(("nobody", weights), None, None)
-        settled = settled_parts(self.saying, cuts)
+            pace, weights = way.answer()
+            if pace is None:
+                return Look(("nobody", weights), None, None)
+        settled = settled_parts(self.saying, way.cuts)
         if settled[-1] is not None:
-            return settled_look(settled[-1], pace)
+            return settled_look(settled[-1], way)
         number = row_to_cut(self.saying, settled)
         step = self.steps[number]
+        called = worth_of(step, pace).sign
         looks = []
-        for sign, more, kind in ((1, step, ">"), (0, step, "="), (-1, -step, ">")):
+        for sign in (1, 0, -1):
             if not are_open(looks):
-                looks.append(self.look([*steps, more], [*kinds, kind], {**cuts, number: sign}))
+                looks.append(self.look(way.with_cut(number, sign, step), pace if sign == called else None))
         return joined_look(("cut", number), looks)
 
 
@@ -81,8 +105,11 @@ def word_of(book, saying, given=()):
     somebody = find_caller(book, given)
     if not somebody:
         raise Impossible(somebody)
-    search = CallerSearch(book, saying)
-    return paper_of_look(search.look([book.step_of(row.span) for row in given], [row.kind for row in given], {}))
+    way = Way([book.step_of(row.span) for row in given], [row.kind for row in given], {})
+    look = CallerSearch(book, saying).look(way, somebody.pace)
+    if look.keeper is None or look.breaker is None:
+        return paper_of_look(look)
+    return Open(look.keeper.answer()[0], look.breaker.answer()[0])
 
 
 def paper_of_look(look):
