@@ -3,7 +3,7 @@
 import random
 from functools import lru_cache
 
-from own import is_index, settled, sign_of
+from own import holds, is_index, settled, sign_of
 from own_tables import lights, random_road
 from whosefirst.books import Book
 from whosefirst.ratios import Ratio
@@ -141,18 +141,14 @@ def row_sign(order, row):
     return sign_of(lots[row.other] - lots[row.one])
 
 
-def holds_by(kind, sign):
-    return {">": sign > 0, ">=": sign >= 0, "=": sign == 0}[kind]
-
-
 def truth(order, saying):
-    return settled(saying.parts, {number: holds_by(row.kind, row_sign(order, row)) for number, row in enumerate(saying.rows)})
+    return settled(saying.parts, {number: holds(row.kind, row_sign(order, row)) for number, row in enumerate(saying.rows)})
 
 
 def is_tree(book, saying, tree, lots, cuts, aim):
     """Whether a tree is right: cuts has the signs of the cut rows."""
     if tree is None:
-        return settled(saying.parts, {number: holds_by(saying.rows[number].kind, sign) for number, sign in cuts.items()}) is aim
+        return settled(saying.parts, {number: holds(saying.rows[number].kind, sign) for number, sign in cuts.items()}) is aim
     if type(tree) is not tuple or len(tree) < 2 or type(tree[0]) is not str:
         return False
     if tree[0] == "nobody":

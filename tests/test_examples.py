@@ -48,7 +48,7 @@ class Examples(unittest.TestCase):
                     with self.subTest(module=module, line=line):
                         self.is_so(line[4:], answer, names)
                     asked += 1
-        self.assertGreater(asked, 30)
+        self.assertGreater(asked, 130)
 
     def is_so(self, code, answer, names):
         if answer == "" or answer.startswith(">>> "):
@@ -67,6 +67,8 @@ class Examples(unittest.TestCase):
             self.skipTest("the document is not beside the project")
         with open(DOCUMENT, encoding="utf-8") as file:
             text = file.read()
+        interface = text.split("# The interface\n")[1]
+        self.assertEqual([module for module, _ in headings()], [part.split(".py\n")[0] for part in interface.split("\n## whosefirst/")[1:]])
         for module, lines in headings():
             part = text.split(f"## whosefirst/{module}.py\n")[1].split("\n## ")[0]
             told = [line for block in part.split("```")[1::2] for line in block.splitlines() if line]
