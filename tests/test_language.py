@@ -260,3 +260,23 @@ class Language(unittest.TestCase):
             lines = [node.lineno for node in ast.walk(tree) if isinstance(node, ast.Lambda)]
             if len(set(lines)) < len(lines):
                 self.found.append(f"{file}: two lambdas on a line")
+
+    def test_names_in_comprehensions(self):
+        """The variable of a comprehension in another one has a name that nothing further out assigns."""
+        for file, tree in trees().items():
+            for function in functions(tree):
+                outside = {name for name, node in bound_names(function) if not self.is_in_comprehension(function, node)}
+                for outer in self.comprehensions_in(function):
+                    for inner in [node for node in self.comprehensions_in(outer) if node is not outer]:
+                        for name in self.variables_of(inner):
+                            if name in outside | self.variables_of(outer):
+                                self.wrong(file, inner, f"{name} is assigned further out")
+
+    def comprehensions_in(self, tree):
+        return [node for node in ast.walk(tree) if isinstance(node, (ast.ListComp, ast.SetComp, ast.DictComp))]
+
+    def variables_of(self, comprehension):
+        return {node.id for step in comprehension.generators for node in ast.walk(step.target) if isinstance(node, ast.Name)} - {"_"}
+
+    def is_in_comprehension(self, function, name):
+        return any(name in list(ast.walk(node)) for node in self.comprehensions_in(function))

@@ -38,7 +38,7 @@ def sets_for(sets, members, many):
     if many == 0:
         return None
     # Some set must have the rarest member, so no others need to be tried.
-    tries = [[number for number, one in enumerate(sets) if member in one] for member in members]
+    tries = [[at for at, one in enumerate(sets) if member in one] for member in members]
     for number in min(tries, key=len):
         found = sets_for(sets, [member for member in members if member not in sets[number]], many - 1)
         if found is not None:

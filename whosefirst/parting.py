@@ -42,7 +42,8 @@ def joined_by(names, are_joined):
 def in_order_of_reach(table, parts):
     """Parts each of which reaches all behind it, or is reached by it, as they reach one another."""
     reached = [len([part for part in parts if does_lead(table, first[0], part[0])]) for first in parts]
-    return [parts[number] for _, number in sorted([(-many, number) for number, many in enumerate(reached)])]
+    most_first = sorted([(-many, number) for number, many in enumerate(reached)])
+    return [parts[number] for _, number in most_first]
 
 
 def least_part(table, names, members):

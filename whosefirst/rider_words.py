@@ -52,8 +52,8 @@ class RiderSearch:
     def look_down(self, way, known):
         """The Look at the end of a way; it ends as soon as both are found.
 
-        What is known is the line of a rider who keeps all that is told on the way, or None. So nobody is
-        searched where that rider goes; who is told at last, is searched on the way that was found.
+        What is known is the line of a rider who keeps all that is told on the way, or None: where
+        such a rider goes, none is searched. Who is told at last is searched on the way found.
         """
         line = known
         if line is None:

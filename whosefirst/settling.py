@@ -42,7 +42,10 @@ def row_to_cut(saying, settled):
 
 
 class Look:
-    """What is found below a place: the tree there, and whoever keeps the saying, and does not, None for nobody."""
+    """What is found below a place: the tree there, and whoever keeps the saying, and does not, None for nobody.
+
+    Whoever it is may be told by the way that leads there.
+    """
 
     def __init__(self, tree, keeper, breaker):
         self.tree = tree

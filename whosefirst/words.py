@@ -64,8 +64,8 @@ class CallerSearch:
     def look(self, way, known):
         """The Look at the end of a way; it ends as soon as both are found.
 
-        What is known is a pace that keeps all rows on the way, or None. So nobody is searched
-        where that traveller goes; who is told at last, is searched on the way that was found.
+        What is known is a pace that keeps all rows on the way, or None: where such a traveller
+        goes, none is searched. Who is told at last is searched on the way found.
         """
         pace = known
         if pace is None:
