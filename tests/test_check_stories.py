@@ -3,7 +3,7 @@
 import random
 
 from bent import bent_papers
-from helpers import Case, no_values
+from helpers import AlwaysEqual, Case, no_values
 from own import KINDS, random_span
 from own_stories import is_held, is_struck, is_sure
 from test_sayings import OwnRow
@@ -82,7 +82,7 @@ class Shown(Case):
     def test_held_by_hand(self):
         self.assertIs(shows_held(MORE, Mixed([0, 1, 1])), True)
         self.assertIs(shows_held(value=Held(SPOTS), story=TOLD), True)
-        for value in (Mixed([1, -1]), Mixed([0, 0]), Mixed([1, 1]), Mixed([]), Held(LEVEL), Held(SPOTS[:1]), Held(SPOTS[::-1]), Held([*SPOTS, ("c", Step(0, [0]))]),
+        for value in (Held([(AlwaysEqual(), Step(0, [0])), ("b", Step(1, [1]))]), Mixed([1, -1]), Mixed([0, 0]), Mixed([1, 1]), Mixed([]), Held(LEVEL), Held(SPOTS[:1]), Held(SPOTS[::-1]), Held([*SPOTS, ("c", Step(0, [0]))]),
                       Held([("a", Step(0, [0, 0])), ("b", Step(1, [1, 0]))]), Held([("a", "0 0"), ("b", "1 1")]), Held([("a", None), ("b", None)]), Held(None), Held("ab")):
             self.assertIs(shows_held(TOLD, value), False)
         self.assertIs(shows_held(TOLD, Held({"b": Step(1, [1]), "a": Step(0, [0])})), True)

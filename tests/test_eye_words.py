@@ -4,7 +4,7 @@ import random
 from itertools import product
 
 from bent import bent_papers
-from helpers import Case, no_lists, no_names, no_values, short
+from helpers import AlwaysEqual, Case, no_lists, no_names, no_values, short
 from own_eyes import CROSSED, EIGHT, PLANE, THREE, are_shut, fits, is_eye_word, order_by_moves, orders_of, plain, row_sign, some_roads, truth, weak_orders
 from test_sayings import OwnRow, random_parts
 from whosefirst.books import Book
@@ -259,6 +259,7 @@ class Shown(Case):
         self.assertEqual((cut, number, late), ("cut", 0, None))
         for tree in (("cut", 0, None, early, level), ("cut", 1, None, level, early), ("cut", True, None, level, early), ("cut", 0, None, level, None), ("cut", 0, None, level),
                      ("cut", 0, None, level, early, None), ("nobody", level[1]), None, (), ("cut", 0, ("cut", 0, None, level, early), level, early),
+                     (AlwaysEqual(), early[1]), ("cut", 0, None, (AlwaysEqual(), level[1]), early), ("cut", AlwaysEqual(), None, level, early),
                      ("cut", 0, None, level, ("nobody", early[1], None)), ("cut", 0, None, level, ("nobody",)), ["side", "a", None, None], "nobody", ("put", 0, [])):
             self.assertIs(shows_eye_word(THREE, saying, [["b"]], Always(tree)), is_eye_word(THREE, saying, [["b"]], Always(tree)))
         self.assertIs(shows_eye_word(THREE, saying, [["b"]], Always(["cut", 0, None, ["nobody", [list(state) for state in level[1][::-1]]], early])), True)

@@ -1,6 +1,7 @@
 """Point 24, whosefirst/passers.py and whosefirst/check_passers.py."""
 
 import random
+from itertools import permutations
 
 from bent import bent_papers
 from helpers import Case, no_lists, no_values, short
@@ -199,6 +200,18 @@ class FewestPassers(Case):
         # Ends that are not in: what is late and what is early share nobody, though both come near to one pace.
         self.assertEqual(len(fewest_passers(BOOK, [[EARLY], [Row.ahead("a", "b")]]).paces), 2)
         self.assertEqual(len(fewest_passers(BOOK, [[Row(Span.between("b", "a"), ">=")], [Row.ahead("a", "b")], [LEVEL]]).paces), 2)
+
+    def test_ends_at_one_pace(self):
+        """Of pieces that end at one pace that without it ends first: else all would seem to share one."""
+        gap = Span.between("a", "b")
+        till, short, just = [Row(gap, ">=")], [Row(gap, ">")], [Row(gap, "=")]
+        for accounts in permutations([till, short, just]):
+            paper = fewest_passers(BOOK, accounts)
+            self.assertEqual(len(paper.paces), 2)
+            self.is_told_right(BOOK, accounts, paper)
+        for accounts in permutations([till, short, till, [*short, Row.ahead("a", "c")]]):
+            self.assertEqual(len(fewest_passers(BOOK, accounts).paces), 1)
+            self.is_told_right(BOOK, accounts, fewest_passers(BOOK, accounts))
 
     def test_bounds(self):
         accounts = [[EARLY] * 8, *[[LATE]] * 7]

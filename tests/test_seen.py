@@ -150,7 +150,7 @@ class ShownSeen(Case):
         order = [["a"], ["b"], ["c"]]
         states = list(find_eye(THREE, order).states)
         for told, due in ((states, True), (states[::-1], True), ([list(state) for state in states], True), ([*states, states[0]], False), (states[1:], False),
-                          ([*states, (3, 3)], False), ([*states, (4, 0)], False), ([*states, (-1, 0)], False), ([*states, (True, 2)], False), ([*states, (Ratio(1), 2)], False),
+                          ([*states, (3, 3)], False), ([*states, (4, 0)], False), ([*states, (-1, 0)], False), ([*states, (0, 4)], False), ([*states, (0, -1)], False), ([*states, (True, 2)], False), ([*states, (Ratio(1), 2)], False),
                           ([*states, (1,)], False), ([*states, (1, 2, 3)], False), ([*states, None], False), ([], False), (None, False), ("ab", False)):
             self.assertIs(shows_seen(THREE, order, Unseen(told)), due)
         for weave in ("bbb", Weave("bb"), Weave("bbbb"), Weave("uuuwww"), None, Weave("bbw")):
